@@ -1,0 +1,1 @@
+"""Longways: sets of couples that dance, and where everybody then stands."""

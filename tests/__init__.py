@@ -1,0 +1,1 @@
+"""Tests of longways; see README.md for how to run them."""
