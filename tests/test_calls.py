@@ -4,93 +4,10 @@ import unittest
 
 from longways.calls import beats, call_way, taken, turned_call
 from longways.errors import BadCall, BadSpots
-from tests.floors import BAD_SPOTS, FLOORS, HUGE, bad_spans, spans
+from tests.floors import BAD_SPOTS, FLOORS, HUGE, MANIES, bad_spans, good_calls, spans, way_by_hand
 
 ALL_FOUR = (call_way, taken, beats, turned_call)
-MANIES = tuple(many for many in range(-64, 65) if many != 0)
 COUNTS = {"ring": 3, "chain": 3, "cross": 1, "pass": 2, "corner": 2, "cast": 2, "lead": 2, "stand": 1}
-
-
-def good_calls(spots):
-    """Every call that a floor allows."""
-    calls = [("stand", many) for many in range(1, 65)]
-    calls += [("cross", spot) for spot in range(spots)]
-    for first, last in spans(spots):
-        calls += [(word, first, last) for word in ("cast", "lead")]
-        calls += [(word, first, last, many) for word in ("ring", "chain") for many in MANIES]
-    for spot in range(spots - 1):
-        calls += [(word, spot, side) for word in ("pass", "corner") for side in (0, 1)]
-    return calls
-
-
-def one_step(first, last, spot, side, onward):
-    """From one place of the ring of these spots to the next one, or back to the one ahead."""
-    if side == (1 if onward else 0):
-        return (spot + 1, side) if spot < last else (spot, 1 - side)
-    return (spot - 1, side) if spot > first else (spot, 1 - side)
-
-
-def steps_on(first, last, many, spot, side):
-    """Where so many steps round the ring of these spots lead, gone one by one."""
-    for step in range(abs(many)):
-        spot, side = one_step(first, last, spot, side, many > 0)
-    return spot, side
-
-
-def ring_goal(spot, side, first, last, many):
-    return steps_on(first, last, many, spot, side) if first <= spot <= last else (spot, side)
-
-
-def chain_goal(spot, side, first, last, many):
-    # Right places are counted from the ring's beginning on, left ones back from it.
-    at = spot - first + 1 if side == 1 else (first - spot) % (2 * (last - first + 1))
-    return ring_goal(spot, side, first, last, many if at % 2 == 0 else -many)
-
-
-def cross_goal(spot, side, at):
-    return (spot, 1 - side) if spot == at else (spot, side)
-
-
-def pass_goal(spot, side, at, on):
-    if side == on and spot in (at, at + 1):
-        return 2 * at + 1 - spot, side
-    return spot, side
-
-
-def corner_goal(spot, side, at, on):
-    if (spot, side) == (at, on):
-        return at + 1, 1 - on
-    if (spot, side) == (at + 1, 1 - on):
-        return at, on
-    return spot, side
-
-
-def cast_goal(spot, side, first, last):
-    if spot == first:
-        return last, side
-    return (spot - 1, side) if first < spot <= last else (spot, side)
-
-
-def lead_goal(spot, side, first, last):
-    if spot == last:
-        return first, side
-    return (spot + 1, side) if first <= spot < last else (spot, side)
-
-
-def stand_goal(spot, side, many):
-    return spot, side
-
-
-GOALS = {
-    "ring": ring_goal, "chain": chain_goal, "cross": cross_goal, "pass": pass_goal,
-    "corner": corner_goal, "cast": cast_goal, "lead": lead_goal, "stand": stand_goal,
-}
-
-
-def way_by_hand(spots, call):
-    """The way of a call, each dancer followed by spot and side."""
-    goals = [GOALS[call[0]](place // 2, place % 2, *call[1:]) for place in range(2 * spots)]
-    return [2 * spot + side for spot, side in goals]
 
 
 class Refusing(unittest.TestCase):

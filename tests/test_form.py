@@ -26,6 +26,29 @@ NODES = [(name, node) for name, tree in TREES.items() for node in ast.walk(tree)
 TOP_NODES = (ast.Expr, ast.ImportFrom, ast.FunctionDef, ast.ClassDef, ast.Assign)
 
 
+def top_names(tree):
+    """The names that the top of a file binds."""
+    names = []
+    for node in tree.body:
+        if isinstance(node, ast.ImportFrom):
+            names += [alias.name for alias in node.names]
+        if isinstance(node, (ast.FunctionDef, ast.ClassDef)):
+            names.append(node.name)
+        if isinstance(node, ast.Assign):
+            names += [target.id for target in node.targets]
+    return names
+
+
+def given_names(top):
+    """The parameters and locals within a def or a class of a file's top."""
+    stored = [node.id for node in ast.walk(top) if isinstance(node, ast.Name) and isinstance(node.ctx, ast.Store)]
+    return stored + [node.arg for node in ast.walk(top) if isinstance(node, ast.arg)]
+
+
+def drawn_files(tree):
+    return {node.module for node in tree.body if isinstance(node, ast.ImportFrom)}
+
+
 class Form(unittest.TestCase):
     def test_files(self):
         self.assertIn(PACKAGE / "__init__.py", FILES)
@@ -69,6 +92,29 @@ class Form(unittest.TestCase):
                 self.assertIsInstance(node.ctx, ast.Load, (name, node.id))
             if isinstance(node, ast.arg):
                 self.assertFalse(hasattr(builtins, node.arg), (name, node.arg))
+
+    def test_each_name_means_one_thing_in_its_file(self):
+        for name, tree in TREES.items():
+            tops = top_names(tree)
+            self.assertEqual(sorted(set(tops)), sorted(tops), name)
+            drawn = [alias.name for node in tree.body if isinstance(node, ast.ImportFrom) for alias in node.names]
+            classes = [node.name for node in tree.body if isinstance(node, ast.ClassDef)]
+            given = [word for node in tree.body if not isinstance(node, ast.Assign) for word in given_names(node)]
+            self.assertEqual(set(drawn + classes) & set(given), set(), name)
+            self.assertEqual([word for word in tops + given if word.startswith("_")], [], name)
+
+    def test_no_two_files_draw_from_one_another(self):
+        draws = {f"longways.{name[:-3]}": drawn_files(tree) for name, tree in TREES.items()}
+        left = set(draws)
+        while left:
+            free = {name for name in left if not draws[name] & left}
+            self.assertTrue(free, sorted(left))
+            left -= free
+
+    def test_texts(self):
+        for name, node in NODES:
+            if isinstance(node, ast.Constant) and isinstance(node.value, str):
+                self.assertNotIn("%", node.value, name)
 
 
 if __name__ == "__main__":
