@@ -68,12 +68,16 @@ def turned(spots, figure):
     return [[turned_call(spots, call) for call in bar] for bar in reversed(figure)]
 
 
-def leads(figure):
-    """The empty text where a figure on 2 spots leads on, else the first word that tells what bars it."""
-    way = figure_way(2, figure)
+def leading(way):
+    """The empty text where a way on 2 spots leads on, else the first word that tells what bars it."""
     if way == [2, 3, 0, 1]:
         return ""
     # What the two of spot 0 do tells it of both spots: with 2 spots those of spot 1 have the places that are left.
     if way[0] // 2 != way[1] // 2:
         return "parted"
     return "stays" if way[0] // 2 == 0 else "crossed"
+
+
+def leads(figure):
+    """The empty text where a figure on 2 spots leads on, else the first word that tells what bars it."""
+    return leading(figure_way(2, figure))

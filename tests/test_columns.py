@@ -5,7 +5,7 @@ import unittest
 
 from longways.columns import after, course, dancing, meeting, met, ring_place, standing_out, table
 from longways.errors import BadNumber, Same, TooMany
-from tests.floors import HUGE
+from tests.floors import HUGE, one_round, pairs_by_hand
 
 COUNTS = (0, 1, 2, 3, 4, 5, 6, 7, 10, 59, 60)
 PHASES = (0, 1)
@@ -14,25 +14,6 @@ BAD_PHASES = (-1, 2, 3, HUGE, -HUGE)
 BELOW_NOUGHT = (-1, -2, -60, -HUGE)
 GREAT = (HUGE, 10 ** 59, 10 ** 60 - 2, 123456789 * 10 ** 50 + 987654321)
 COLUMNS = [(many, phase) for many in COUNTS for phase in PHASES]
-
-
-def pairs_by_hand(many, phase):
-    """The pairs of spots that dance, found by going down the column."""
-    pairs, spot = [], phase
-    while spot + 1 < many:
-        pairs.append((spot, spot + 1))
-        spot += 2
-    return pairs
-
-
-def one_round(column, phase):
-    """The column behind one round, and the pairs of couples that danced in it."""
-    column = list(column)
-    couples = []
-    for upper, lower in pairs_by_hand(len(column), phase):
-        couples.append({column[upper], column[lower]})
-        column[upper], column[lower] = column[lower], column[upper]
-    return column, couples
 
 
 def rounds_by_hand(many, phase, rounds):

@@ -23,6 +23,17 @@ BARRED_NODES = (
 )
 TREES = {path.name: ast.parse(path.read_text()) for path in FILES}
 NODES = [(name, node) for name, tree in TREES.items() for node in ast.walk(tree)]
+PYTHONS_METHODS = set((
+    "append clear copy count endswith extend find get index insert isalnum isalpha isdigit islower isspace isupper "
+    "items join keys ljust lower lstrip partition pop remove replace reverse rfind rjust rpartition rsplit rstrip "
+    "setdefault split splitlines startswith strip update upper values zfill bit_length add discard"
+).split())
+PYTHONS_VALUES = (str, int, list, tuple, dict, set, bytes)
+METHODS = {
+    method.name for name, node in NODES if isinstance(node, ast.ClassDef) for method in node.body
+    if isinstance(method, ast.FunctionDef)
+}
+VALUES = {node.attr for name, node in NODES if isinstance(node, ast.Attribute) and isinstance(node.ctx, ast.Store)}
 TOP_NODES = (ast.Expr, ast.ImportFrom, ast.FunctionDef, ast.ClassDef, ast.Assign)
 
 
@@ -110,6 +121,30 @@ class Form(unittest.TestCase):
             free = {name for name in left if not draws[name] & left}
             self.assertTrue(free, sorted(left))
             left -= free
+
+    def test_methods_and_values(self):
+        self.assertEqual(METHODS & VALUES, set())
+        two_underscores = {name for name in METHODS if name.startswith("_")}
+        self.assertEqual(two_underscores - {"__init__", "__eq__", "__repr__", "__str__", "__len__"}, set())
+        pythons = {name for kind in PYTHONS_VALUES for name in dir(kind)}
+        self.assertEqual((METHODS - two_underscores - PYTHONS_METHODS) & pythons, set())
+        self.assertEqual(VALUES & pythons, set())
+
+    def test_what_is_asked_and_called_of_things(self):
+        called = [node.func for name, node in NODES if isinstance(node, ast.Call)]
+        for name, node in NODES:
+            if isinstance(node, ast.Attribute) and node in called:
+                self.assertIn(node.attr, METHODS | PYTHONS_METHODS, name)
+            elif isinstance(node, ast.Attribute):
+                self.assertIn(node.attr, VALUES, name)
+
+    def test_handlers_take_refusals_by_their_names(self):
+        refusals = {node.name for node in TREES["errors.py"].body if isinstance(node, ast.ClassDef)}
+        for name, node in NODES:
+            if isinstance(node, ast.ExceptHandler):
+                self.assertIn(node.type.id, refusals, name)
+            if isinstance(node, ast.Raise):
+                self.assertIn(node.exc.func.id, refusals, name)
 
     def test_texts(self):
         for name, node in NODES:
